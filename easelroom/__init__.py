@@ -1,0 +1,1 @@
+"""Easelroom: pictures of floors, the straight edge, curves, and claims for every placing."""

@@ -1,0 +1,68 @@
+"""What several tests need: small rows, great numbers, and things of every other kind."""
+
+import itertools
+import math
+import random
+
+THREE_HUNDRED = 10 ** 299 + 7
+THREE_THOUSAND = 10 ** 2999 + 9
+
+NO_ROWS = [
+    None, True, False, 0, 1, -3, "", "plain", "(1, 0, 0)", [], [1], [[1, 0, 0]], (), ((),), ((1, 0, 0),),
+    (None,), ("1",), (True,), [None, [None, [None, [None, [None, [None]]]]]],
+    (((((1,),),),),),
+]
+
+NO_NUMBERS = [True, False, None, "1", "", (1,), (), [1], []]
+
+
+def is_plain_row(row):
+    """Plainness told anew, by other means than the package's."""
+    if math.gcd(*row) != 1:
+        return False
+    return [number for number in row if number != 0][-1] > 0
+
+
+def small_rows(greatest, many=3):
+    """All plain rows of so many numbers from -greatest to greatest."""
+    span = range(-greatest, greatest + 1)
+    return [row for row in itertools.product(span, repeat=many) if is_plain_row(row)]
+
+
+def alike_but_factor(row, numbers):
+    """Whether row and numbers come from one another by one factor."""
+    pairs = itertools.combinations(range(len(row)), 2)
+    return len(row) == len(numbers) and all(row[i] * numbers[j] == row[j] * numbers[i] for i, j in pairs)
+
+
+def determinant(numbers):
+    """The size of nine numbers, straight from the words of point 8."""
+    a, b, c, d, e, f, g, h, i = numbers
+    return a * (e * i - f * h) - b * (d * i - f * g) + c * (d * h - e * g)
+
+
+def some_maps(many, greatest=4, seed=8):
+    """Plain rows of nine whose size is not 0, always the same ones."""
+    chance = random.Random(seed)
+    found = []
+    while len(found) < many:
+        row = tuple(chance.randint(-greatest, greatest) for place in range(9))
+        if determinant(row) != 0 and is_plain_row(row):
+            found.append(row)
+    return found
+
+
+def lie_on_line(one, other, third):
+    return determinant(one + other + third) == 0
+
+
+def some_free_fours(many, greatest=3, seed=10):
+    """Lists of four spots, no three on one line, always the same ones."""
+    chance = random.Random(seed)
+    spots = small_rows(greatest)
+    found = []
+    while len(found) < many:
+        four = [chance.choice(spots) for place in range(4)]
+        if not any(lie_on_line(*three) for three in itertools.combinations(four, 3)):
+            found.append(four)
+    return found

@@ -1,0 +1,91 @@
+"""Point 2: what is handed in stays as it was, and what is told is the asker's own."""
+
+import copy
+import unittest
+
+from easelroom.errors import EaselError
+from easelroom.maps import are_free, is_map, map_between, map_of, size_of, tiles
+from easelroom.plain import divisor, is_plain, plain
+from easelroom.spots import on_line, through_spot
+
+LINE = [(0, 0, 1), (0, 0, 1), (1, 2, 1), (1, 2, 0), (0, 0, 1)]
+FREE = [(0, 0, 1), (1, 0, 1), (0, 1, 1), (1, 1, 1)]
+BOUND = [(0, 0, 1), (1, 0, 1), (2, 0, 1), (1, 1, 1)]
+
+CALLS = [
+    (divisor, [[0, -4, 6, 0]]),
+    (divisor, [[0, 0]]),
+    (plain, [[0, -4, 6, 0]]),
+    (plain, [[0, 4, -6, 0]]),
+    (plain, [[0, 0]]),
+    (is_plain, [[0, -4, 6], 3]),
+    (is_plain, [[[1], [None, [True]]], 2]),
+    (on_line, [LINE]),
+    (on_line, [FREE]),
+    (on_line, [[]]),
+    (through_spot, [LINE]),
+    (through_spot, [FREE]),
+    (size_of, [[2, 4, 6, 8, 1, 3, 5, 7, 9]]),
+    (is_map, [[2, 4, 6, 8, 1, 3, 5, 7, 9]]),
+    (map_of, [[-2, 0, 0, 0, -4, 0, 0, 0, -2]]),
+    (map_of, [[0] * 9]),
+    (map_of, [[1] * 9]),
+    (are_free, [FREE]),
+    (are_free, [BOUND]),
+    (map_between, [FREE, [FREE[1], FREE[0], FREE[2], FREE[3]]]),
+    (map_between, [FREE, BOUND]),
+    (map_between, [BOUND, FREE]),
+]
+
+
+def answer(asked, given):
+    try:
+        return asked(*given)
+    except EaselError as error:
+        return error.__class__.__name__
+
+
+class HandedIn(unittest.TestCase):
+    def test_it_stays_as_it_was(self):
+        for asked, given in CALLS:
+            with self.subTest(asked=asked.__name__, given=given):
+                own = copy.deepcopy(given)
+                answer(asked, own)
+                self.assertEqual(own, given)
+
+    def test_asked_again_the_answer_is_the_same(self):
+        for asked, given in CALLS:
+            with self.subTest(asked=asked.__name__, given=given):
+                own = copy.deepcopy(given)
+                first = answer(asked, own)
+                for part in own:
+                    if isinstance(part, list):
+                        part.append(part[0] if part else 5)
+                        part.reverse()
+                self.assertEqual(answer(asked, copy.deepcopy(given)), first)
+
+    def test_what_was_told_does_not_hang_on_what_was_handed_in(self):
+        numbers = [0, -4, 6, 0]
+        row = plain(numbers)
+        numbers[1] = 100
+        self.assertEqual(row, (0, -2, 3, 0))
+        nine = [1, 0, 0, 0, 1, 0, 0, 0, 1]
+        made = map_of(nine)
+        nine[0] = 7
+        self.assertEqual(made, (1, 0, 0, 0, 1, 0, 0, 0, 1))
+
+    def test_what_is_done_to_a_told_list_changes_nothing_told_later(self):
+        before = map_between(FREE, tiles())
+        told = tiles()
+        kept = tiles()
+        told.reverse()
+        told.append((5, 5, 1))
+        told[0] = None
+        self.assertEqual(kept, [(1, 0, 0), (0, 1, 0), (0, 0, 1), (1, 1, 1)])
+        self.assertEqual(tiles(), kept)
+        self.assertEqual(map_between(FREE, tiles()), before)
+        self.assertIs(are_free(tiles()), True)
+
+
+if __name__ == "__main__":
+    unittest.main()
