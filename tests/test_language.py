@@ -1,4 +1,4 @@
-"""Holds the package's files to the rules of the language that can be read off the syntax tree."""
+"""Checks some of the rules of the language on the package's files, as far as the syntax tree shows them."""
 
 import ast
 import builtins
