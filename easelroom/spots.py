@@ -5,6 +5,8 @@ from easelroom.plain import plain
 
 FAR_LINE = (0, 0, 1)
 
+CORNERS = ((0, 0, 1), (1, 0, 1), (0, 1, 1), (1, 1, 1))
+
 
 def spot_at(x, y):
     """The spot that stands at x, y of the floor."""

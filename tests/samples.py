@@ -66,3 +66,35 @@ def some_free_fours(many, greatest=3, seed=10):
         if not any(lie_on_line(*three) for three in itertools.combinations(four, 3)):
             found.append(four)
     return found
+
+
+def made_plain(numbers):
+    """The plain row of the numbers, told anew, by other means than the package's."""
+    factor = math.gcd(*numbers)
+    if [number for number in numbers if number != 0][-1] < 0:
+        factor = -factor
+    return tuple(number // factor for number in numbers)
+
+
+def mapped(by, spot):
+    """The spot to which a map leads a spot, straight from the words of point 8."""
+    return made_plain([sum(by[3 * k + j] * spot[j] for j in range(3)) for k in range(3)])
+
+
+def line_of(one, other):
+    """The line of two unlike spots, or the spot of two unlike lines."""
+    (a, b, c), (d, e, f) = one, other
+    return made_plain([b * f - c * e, c * d - a * f, a * e - b * d])
+
+
+def spots_of_line(line, greatest=3):
+    """Spots of small numbers on the line."""
+    return [spot for spot in small_rows(greatest) if sum(a * b for a, b in zip(spot, line)) == 0]
+
+
+def any_things():
+    """Things of every kind that may be handed in where any thing may."""
+    return NO_ROWS + [
+        (None, None, None), ("free",), ("join", 0, 1), ["join", 0, 1], [("free",)], [[("free",)]], (("free",),),
+        "p free; claim same p p", "0,0,1", [True, False], (True, 1, (2, [3, (4,)])), ((((),),),), -1, 10 ** 20,
+    ]

@@ -3,8 +3,11 @@
 import copy
 import unittest
 
+from easelroom.boards import Board, walked
 from easelroom.errors import EaselError
+from easelroom.forms import form, kind_of, leading
 from easelroom.maps import are_free, is_map, map_between, map_of, size_of, tiles
+from easelroom.pictures import apart, map_to
 from easelroom.plain import divisor, is_plain, plain
 from easelroom.spots import on_line, through_spot
 
@@ -35,6 +38,24 @@ CALLS = [
     (map_between, [FREE, [FREE[1], FREE[0], FREE[2], FREE[3]]]),
     (map_between, [FREE, BOUND]),
     (map_between, [BOUND, FREE]),
+    (kind_of, [FREE]),
+    (kind_of, [LINE]),
+    (form, [FREE + LINE]),
+    (form, [LINE]),
+    (form, [LINE[:3]]),
+    (form, [[]]),
+    (leading, [FREE]),
+    (leading, [LINE]),
+    (leading, [LINE[:1]]),
+    (leading, [FREE * 4]),
+    (apart, [FREE, BOUND]),
+    (apart, [FREE, FREE]),
+    (apart, [LINE, LINE[:4]]),
+    (map_to, [FREE, [FREE[1], FREE[0], FREE[2], FREE[3]]]),
+    (map_to, [LINE, LINE]),
+    (map_to, [FREE, BOUND]),
+    (walked, [[("join", 0, 1), ("join", 2, 3), ("meet", 4, 5)]]),
+    (walked, [[("join", 0, 1), ["join", 2, 3], None]]),
 ]
 
 
@@ -85,6 +106,21 @@ class HandedIn(unittest.TestCase):
         self.assertEqual(tiles(), kept)
         self.assertEqual(map_between(FREE, tiles()), before)
         self.assertIs(are_free(tiles()), True)
+
+    def test_a_told_form_is_the_asker_s_own(self):
+        told = form(FREE)
+        told[1].clear()
+        self.assertEqual(form(FREE), ("four", tiles()))
+        self.assertEqual(len(FREE), 4)
+
+    def test_a_board_keeps_nothing_of_what_was_told(self):
+        board = Board()
+        board.take(("join", 0, 1))
+        board.steps().clear()
+        things = walked(board.steps())
+        things.append(things[0])
+        self.assertEqual(board.steps(), [("join", 0, 1)])
+        self.assertEqual(board.many(), 5)
 
 
 if __name__ == "__main__":
