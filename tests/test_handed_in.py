@@ -4,11 +4,14 @@ import copy
 import unittest
 
 from easelroom.boards import Board, walked
+from easelroom.curves import of_lines, through
+from easelroom.edges import Edge
 from easelroom.errors import EaselError
 from easelroom.forms import form, kind_of, leading
 from easelroom.maps import are_free, is_map, map_between, map_of, size_of, tiles
 from easelroom.pictures import apart, map_to
 from easelroom.plain import divisor, is_plain, plain
+from easelroom.reaching import reach, reached
 from easelroom.spots import on_line, through_spot
 
 LINE = [(0, 0, 1), (0, 0, 1), (1, 2, 1), (1, 2, 0), (0, 0, 1)]
@@ -56,6 +59,9 @@ CALLS = [
     (map_to, [FREE, BOUND]),
     (walked, [[("join", 0, 1), ("join", 2, 3), ("meet", 4, 5)]]),
     (walked, [[("join", 0, 1), ["join", 2, 3], None]]),
+    (through, [FREE + [(2, 5, 1)]]),
+    (through, [FREE + [FREE[0]]]),
+    (through, [BOUND + [(5, 0, 1)]]),
 ]
 
 
@@ -121,6 +127,17 @@ class HandedIn(unittest.TestCase):
         things.append(things[0])
         self.assertEqual(board.steps(), [("join", 0, 1)])
         self.assertEqual(board.many(), 5)
+
+    def test_an_edge_keeps_nothing_of_what_was_told(self):
+        board = Board()
+        edge = Edge(board)
+        edge.sum_of(1, 1)
+        board.steps().clear()
+        self.assertEqual(board.told(reach(edge, (3, -4, 7))), (3, -4, 7))
+        steps = reached((3, -4, 7))
+        steps.reverse()
+        self.assertEqual(walked(reached((3, -4, 7)))[-1], ("spot", (3, -4, 7)))
+        self.assertEqual(of_lines((1, 0, 0), (0, 1, 0)), (0, 1, 0, 0, 0, 0))
 
 
 if __name__ == "__main__":
