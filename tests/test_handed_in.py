@@ -8,10 +8,13 @@ from easelroom.curves import of_lines, through
 from easelroom.edges import Edge
 from easelroom.errors import EaselError
 from easelroom.forms import form, kind_of, leading
+from easelroom.letters import is_sum
 from easelroom.maps import are_free, is_map, map_between, map_of, size_of, tiles
 from easelroom.pictures import apart, map_to
 from easelroom.plain import divisor, is_plain, plain
 from easelroom.reaching import reach, reached
+from easelroom.roads import crossings, is_closed
+from easelroom.rounds import other_by_edge, touching_by_edge
 from easelroom.spots import on_line, through_spot
 
 LINE = [(0, 0, 1), (0, 0, 1), (1, 2, 1), (1, 2, 0), (0, 0, 1)]
@@ -62,6 +65,16 @@ CALLS = [
     (through, [FREE + [(2, 5, 1)]]),
     (through, [FREE + [FREE[0]]]),
     (through, [BOUND + [(5, 0, 1)]]),
+    (crossings, [FREE + [(2, 5, 1), (7, 3, 1)]]),
+    (crossings, [FREE + [(2, 5, 1), (2, 5, 1)]]),
+    (is_closed, [FREE + [(2, 5, 1), (7, 3, 1)]]),
+    (is_closed, [BOUND + [(2, 5, 1), (7, 3, 1)]]),
+    (other_by_edge, [FREE + [(2, 5, 1)], (0, -1, 5)]),
+    (other_by_edge, [FREE + [(2, 5, 1)], (0, -1, 4)]),
+    (touching_by_edge, [FREE + [(2, 5, 1)]]),
+    (touching_by_edge, [BOUND + [(2, 5, 1)]]),
+    (is_sum, [[((0, 0), 1)], 2]),
+    (is_sum, [([0, 0], [1, [2]]), 2]),
 ]
 
 
