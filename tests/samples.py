@@ -98,3 +98,35 @@ def any_things():
         (None, None, None), ("free",), ("join", 0, 1), ["join", 0, 1], [("free",)], [[("free",)]], (("free",),),
         "p free; claim same p p", "0,0,1", [True, False], (True, 1, (2, [3, (4,)])), ((((),),),), -1, 10 ** 20,
     ]
+
+
+def sketched(text):
+    """The rows and the claim, if any, of rows written with names, as `p free; q free; l join p q; claim on p l`."""
+    names, rows, claim = [], [], None
+    for line in text.split("; "):
+        words = line.split(" ")
+        if words[0] == "claim" and line == text.split("; ")[-1]:
+            claim = (words[1],) + tuple(names.index(name) for name in words[2:])
+        else:
+            rows.append((words[1],) + tuple(names.index(name) for name in words[2:]))
+            names.append(words[0])
+    return rows, claim
+
+
+FOUR = "a free; b free; c free; d free"
+FIVE = FOUR + "; e free"
+SIX = FIVE + "; f free"
+SEVEN = SIX + "; g free"
+
+# One drawing with rows of every word; its other can be done wherever the curve can.
+ALL_WORDS = SIX + (
+    "; q curve a b c d e; ab join a b; cd join c d; m meet ab cd; t about q a; p about q f; x pole q ab"
+    "; o other q e f; xm join x m"
+)
+EVERY = sketched(ALL_WORDS)[0]
+EVERY_NAMES = [line.split(" ")[0] for line in ALL_WORDS.split("; ")]
+
+
+def every(name):
+    """The number of a row of EVERY."""
+    return EVERY_NAMES.index(name)

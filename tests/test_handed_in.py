@@ -4,14 +4,18 @@ import copy
 import unittest
 
 from easelroom.boards import Board, walked
+from easelroom.claims import holds, is_claim
 from easelroom.curves import of_lines, through
+from easelroom.drawings import free_rows, is_drawing
 from easelroom.edges import Edge
 from easelroom.errors import EaselError
 from easelroom.forms import form, kind_of, leading
 from easelroom.letters import is_sum
 from easelroom.maps import are_free, is_map, map_between, map_of, size_of, tiles
 from easelroom.pictures import apart, map_to
+from easelroom.placing import is_of_kind, placed, standing
 from easelroom.plain import divisor, is_plain, plain
+from easelroom.raws import claim_sums, free_thing, raw
 from easelroom.reaching import reach, reached
 from easelroom.roads import crossings, is_closed
 from easelroom.rounds import other_by_edge, touching_by_edge
@@ -19,6 +23,7 @@ from easelroom.spots import on_line, through_spot
 
 LINE = [(0, 0, 1), (0, 0, 1), (1, 2, 1), (1, 2, 0), (0, 0, 1)]
 FREE = [(0, 0, 1), (1, 0, 1), (0, 1, 1), (1, 1, 1)]
+ROWS = [("free",), ("free",), ("free",), ("free",), ("join", 0, 1), ("join", 2, 3), ("meet", 4, 5)]
 BOUND = [(0, 0, 1), (1, 0, 1), (2, 0, 1), (1, 1, 1)]
 
 CALLS = [
@@ -75,6 +80,19 @@ CALLS = [
     (touching_by_edge, [BOUND + [(2, 5, 1)]]),
     (is_sum, [[((0, 0), 1)], 2]),
     (is_sum, [([0, 0], [1, [2]]), 2]),
+    (is_drawing, [ROWS]),
+    (is_drawing, [[["free"], [None, [True]]]]),
+    (free_rows, [ROWS]),
+    (placed, [ROWS, FREE]),
+    (placed, [ROWS, [FREE[0]] * 4]),
+    (is_of_kind, [ROWS, BOUND]),
+    (standing, [ROWS + [("free",)], [5, 6]]),
+    (is_claim, [ROWS, ["on", 0, 4]]),
+    (is_claim, [ROWS, ("on", 0, 4)]),
+    (holds, [ROWS, placed(ROWS, FREE), ("on", 0, 4)]),
+    (free_thing, [ROWS, 2]),
+    (raw, [ROWS, [free_thing(ROWS, k) for k in range(4)], 4]),
+    (claim_sums, [ROWS, [free_thing(ROWS, k) for k in range(4)], ("row", 0, 1, 2)]),
 ]
 
 
