@@ -5,7 +5,7 @@ from easelroom.errors import Apart
 from easelroom.forms import check_picture, first_free, leading
 from easelroom.maps import back, led, map_between, then, tiles
 from easelroom.spots import on_line
-from easelroom.throws import throw
+from easelroom.throws import has_three_alike, throw_numbers
 
 
 def first_places(one, other, size, differs):
@@ -29,9 +29,12 @@ def threes_differ(one, other):
 def throws_differ(one, other):
     """Whether four spots of one line, no three alike, have unlike throws."""
     # Twos and threes do not differ here, so what is asked of the one picture holds in the other one too.
-    if not on_line(one) or max([one.count(spot) for spot in one]) > 2:
+    if not on_line(one) or has_three_alike(one):
         return False
-    return throw(one[0], one[1], one[2], one[3]) != throw(other[0], other[1], other[2], other[3])
+    # Without making them plain: of great numbers that takes long, and there are many fours.
+    mine = throw_numbers(one)
+    its = throw_numbers(other)
+    return mine[0] * its[1] != mine[1] * its[0]
 
 
 def fifth_apart(one, other):

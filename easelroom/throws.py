@@ -16,7 +16,23 @@ def place_off(spots):
 def turn_at(one, other, place):
     """The turn of both spots and the spot of the place."""
     # That spot has one 1 and two noughts, so the turn is one number of the cross.
-    return cross(one, other)[place]
+    first = (place + 1) % 3
+    second = (place + 2) % 3
+    return one[first] * other[second] - one[second] * other[first]
+
+
+def has_three_alike(four):
+    """Whether three of the four spots at least are the same."""
+    return max([four.count(spot) for spot in four]) > 2
+
+
+def throw_numbers(four):
+    """The two numbers of which the throw of four spots of one line, no three alike, is made."""
+    place = place_off(four)
+    return [
+        turn_at(four[0], four[2], place) * turn_at(four[1], four[3], place),
+        turn_at(four[0], four[3], place) * turn_at(four[1], four[2], place),
+    ]
 
 
 def throw(one, other, third, last):
@@ -24,13 +40,9 @@ def throw(one, other, third, last):
     four = [one, other, third, last]
     if not on_line(four):
         raise NotOnLine("the four spots do not lie on one line")
-    if max([four.count(spot) for spot in four]) > 2:
+    if has_three_alike(four):
         raise NoThrow("three of the four spots are the same")
-    place = place_off(four)
-    return plain([
-        turn_at(one, third, place) * turn_at(other, last, place),
-        turn_at(one, last, place) * turn_at(other, third, place),
-    ])
+    return plain(throw_numbers(four))
 
 
 def fourth(one, other, third, row):

@@ -146,8 +146,12 @@ class Refused(unittest.TestCase):
         upright = board.take(("meet", board.take(("join", 0, 2)), board.take(("join", 1, 3))))
         self.assertEqual(board.told(far), (1, 0, 0))
         self.assertEqual(board.told(upright), (0, 1, 0))
+        side = board.take(("join", 1, 3))
+        self.assertEqual(board.told(side), (-1, 0, 1))
+        board.take(("meet", line, side))
         for word in WORDS:
-            for wrong in [-1, board.many(), board.many() + 7, 10 ** 30, line, 2, 3, far, upright]:
+            many = board.many()
+            for wrong in [-1, -many, 1 - many, many, many + 7, 10 ** 30, line, side, 2, 3, far, upright]:
                 self.refused(NotOnEdge, board, edge, word, wrong, 1)
                 self.refused(NotOnEdge, board, edge, word, 1, wrong)
                 self.refused(NotOnEdge, board, edge, word, wrong, wrong)

@@ -1,4 +1,4 @@
-"""Checks some of the rules of the language on the package's files, as far as the syntax tree shows them."""
+"""Checks the rules of the language on the package's files, as far as the syntax tree shows them."""
 
 import ast
 import builtins
@@ -208,6 +208,162 @@ class Names(unittest.TestCase):
         for name, node in walked():
             if isinstance(node, ast.Call) and isinstance(node.func, ast.Attribute):
                 self.assertIn(node.func.attr, METHODS + own + SPECIAL_METHODS, name)
+
+
+def parents(tree):
+    """For each node of the tree the node that it stands in."""
+    return {child: node for node in ast.walk(tree) for child in ast.iter_child_nodes(node)}
+
+
+def calls_of(tree, names):
+    """The calls of these names of Python's own."""
+    return [node for node in ast.walk(tree) if isinstance(node, ast.Call) and is_name_of(node.func, names)]
+
+
+def is_name_of(node, names):
+    return isinstance(node, ast.Name) and node.id in names
+
+
+KEYWORDS = {
+    "sorted": ["key", "reverse"], "min": ["key", "default"], "max": ["key", "default"], "sum": ["start"],
+    "enumerate": ["start"], "zip": ["strict"],
+}
+WALKERS = ["list", "tuple", "dict", "sorted", "sum", "any", "all", "enumerate", "zip", "min", "max"]
+CHANGES = "append clear extend insert pop remove reverse setdefault update".split()
+READS = "get index count keys values items".split()
+VALUES_OF_OWN = "count index title find get join lower upper split strip copy add".split()
+
+
+class NarrowForms(unittest.TestCase):
+    """Rules L13 and L15 to L28, as far as the syntax tree shows them."""
+
+    def test_sets_are_measured_or_asked_on_the_spot(self):
+        for path, tree in trees():
+            above = parents(tree)
+            self.assertFalse([node for node in ast.walk(tree) if isinstance(node, ast.Set)], path.name)
+            for node in calls_of(tree, ["set", "frozenset"]):
+                self.assertTrue(is_name_of(getattr(above[node], "func", None), ["len", "sorted"]), path.name)
+
+    def test_lists_and_dicts_of_the_top_are_only_read(self):
+        for path, tree in trees():
+            above = parents(tree)
+            tops = {}
+            for node in tree.body:
+                if isinstance(node, ast.Assign):
+                    tops[node.targets[0].id] = node.value
+                    inner = [part for part in ast.walk(node.value) if isinstance(part, (ast.List, ast.Dict))]
+                    self.assertTrue(all(part is node.value for part in inner), path.name)
+                    self.assertFalse([part for part in ast.walk(node.value) if isinstance(part, (ast.Call, ast.BinOp))])
+            for node in ast.walk(tree):
+                if isinstance(node, ast.Name) and isinstance(tops.get(node.id), (ast.List, ast.Dict)):
+                    at = above[node]
+                    if isinstance(node.ctx, ast.Store):
+                        self.assertIn(at, tree.body)
+                        continue
+                    copied = isinstance(at, ast.Call) and is_name_of(at.func, ["list", "dict", "len", "tuple"])
+                    read = isinstance(at, ast.Subscript) and isinstance(at.ctx, ast.Load)
+                    asked = isinstance(at, ast.Compare) or isinstance(at, ast.Attribute) and at.attr in READS
+                    self.assertTrue(copied or read or asked or isinstance(at, ast.For), (path.name, node.id))
+
+    def test_no_name_is_a_method_and_a_value(self):
+        methods, values = set(), set()
+        for path, tree in trees():
+            for node in ast.walk(tree):
+                if isinstance(node, ast.ClassDef):
+                    own = [part.name for part in node.body if isinstance(part, ast.FunctionDef)]
+                    self.assertEqual(len(own), len(set(own)), node.name)
+                    methods.update(own)
+                    given = [part for part in ast.walk(node) if isinstance(part, ast.Attribute)]
+                    values.update(part.attr for part in given if isinstance(part.ctx, ast.Store))
+        self.assertEqual(methods & values, set())
+        taken = {name for kind in (str, int, list, dict, set, bytes, tuple) for name in dir(kind)}
+        self.assertEqual((methods & taken) - set(METHODS + SPECIAL_METHODS + ["add", "discard"]), set())
+        self.assertEqual((values & taken) - set(VALUES_OF_OWN), set())
+        self.assertNotIn("args", values)
+
+    def test_classes_are_called_taken_or_raised_alone(self):
+        classes = {node.name for path, tree in trees() for node in tree.body if isinstance(node, ast.ClassDef)}
+        for path, tree in trees():
+            above = parents(tree)
+            for node in ast.walk(tree):
+                if is_name_of(node, classes):
+                    at = above[node]
+                    called = isinstance(at, ast.Call) and (at.func is node or is_name_of(at.func, ["isinstance"]))
+                    self.assertTrue(called or isinstance(at, (ast.ClassDef, ast.ExceptHandler)), (path.name, node.id))
+
+    def test_errors_are_made_where_they_are_raised_and_own_ones_are_taken(self):
+        for name, node in walked():
+            if isinstance(node, ast.Raise):
+                self.assertIsInstance(node.exc, ast.Call, name)
+            if isinstance(node, ast.ExceptHandler):
+                self.assertIsInstance(node.type, ast.Name, name)
+                self.assertFalse(hasattr(builtins, node.type.id), name)
+
+    def test_no_annotations(self):
+        for name, node in walked():
+            self.assertIsNone(getattr(node, "annotation", None), name)
+            self.assertIsNone(getattr(node, "returns", None), name)
+
+    def test_keywords_of_python_s_own(self):
+        for name, node in walked():
+            if isinstance(node, ast.Call) and isinstance(node.func, ast.Name) and hasattr(builtins, node.func.id):
+                self.assertLessEqual({word.arg for word in node.keywords}, set(KEYWORDS.get(node.func.id, [])), name)
+            if isinstance(node, ast.Call) and isinstance(node.func, ast.Attribute):
+                self.assertEqual(node.keywords, [], name)
+
+    def test_python_s_own_names_and_methods_are_called_where_they_stand(self):
+        kinds = ("int", "str", "bool", "list", "tuple", "dict", "ValueError")
+        for path, tree in trees():
+            above = parents(tree)
+            methods = [node.name for node in ast.walk(tree) if isinstance(node, ast.FunctionDef)]
+            for node in ast.walk(tree):
+                called = isinstance(above.get(node), ast.Call) and above[node].func is node
+                if is_name_of(node, OWN_NAMES) and not called:
+                    self.assertIn(node.id, kinds, path.name)
+                if isinstance(node, ast.Attribute) and node.attr in METHODS + methods:
+                    self.assertTrue(called, (path.name, node.attr))
+
+    def test_walked_at_once(self):
+        for path, tree in trees():
+            above = parents(tree)
+            found = calls_of(tree, ["zip", "enumerate", "reversed", "range"])
+            found += [node for node in ast.walk(tree) if isinstance(node, ast.Call)
+                      and isinstance(node.func, ast.Attribute) and node.func.attr in ("items", "keys", "values")]
+            for node in found:
+                at = above[node]
+                in_loop = isinstance(at, (ast.For, ast.comprehension)) and at.iter is node
+                in_call = isinstance(at, ast.Call) and is_name_of(at.func, WALKERS)
+                in_join = (isinstance(at, ast.Call) and isinstance(at.func, ast.Attribute) and at.func.attr == "join"
+                           and isinstance(at.func.value, ast.Constant))
+                self.assertTrue(in_loop or in_call or in_join, (path.name, node.lineno))
+
+    def test_what_a_loop_walks_is_not_changed_in_it(self):
+        for name, node in walked():
+            if not isinstance(node, ast.For):
+                continue
+            over = {part.id for part in ast.walk(node.iter) if isinstance(part, ast.Name)}
+            for part in [inner for line in node.body for inner in ast.walk(line)]:
+                if isinstance(part, ast.Call) and isinstance(part.func, ast.Attribute) and part.func.attr in CHANGES:
+                    self.assertFalse(is_name_of(part.func.value, over), (name, part.lineno))
+                if isinstance(part, ast.Subscript) and isinstance(part.ctx, ast.Store):
+                    self.assertFalse(is_name_of(part.value, over), (name, part.lineno))
+
+    def test_exponents_are_written(self):
+        for name, node in walked():
+            if isinstance(node, ast.BinOp) and isinstance(node.op, ast.Pow):
+                self.assertIsInstance(node.right, ast.Constant, name)
+                self.assertTrue(0 <= node.right.value <= 64, name)
+
+    def test_texts(self):
+        for path in package_files():
+            for node in ast.walk(ast.parse(path.read_text(encoding="utf-8"))):
+                if isinstance(node, ast.Constant) and isinstance(node.value, str):
+                    self.assertNotIn(chr(37), node.value, path.name)
+
+    def test_makers_give_back_nothing(self):
+        for name, node in walked():
+            if isinstance(node, ast.FunctionDef) and node.name == "__init__":
+                self.assertFalse([part for part in ast.walk(node) if isinstance(part, ast.Return)], name)
 
 
 if __name__ == "__main__":

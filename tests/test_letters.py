@@ -210,6 +210,15 @@ class Reckoning(unittest.TestCase):
         with self.assertRaises(TooMuch):
             times(other, more)
 
+    def test_one_pair_of_terms_too_many(self):
+        one = times(chain(0, 2, 18), chain(1, 2, 10))[:177]
+        other = times(chain(0, 2, 12), chain(1, 2, 10))[:113]
+        self.assertEqual(len(one) * len(other), 20001)
+        self.assertLessEqual(len(product_by_terms(one, other)), 600)
+        with self.assertRaises(TooMuch):
+            times(one, other)
+        self.assertEqual(times(one, other[1:]), product_by_terms(one, other[1:]))
+
     def test_great_numbers(self):
         n = THREE_HUNDRED
         self.assertEqual(times(number_sum(n, 1), number_sum(-n, 1)), (((0,), -n * n),))
