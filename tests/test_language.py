@@ -1,4 +1,4 @@
-"""Checks the rules of the language on the package's files, as far as the syntax tree shows them."""
+"""Checks many of the rules of the language on the package's files, not all, by the syntax tree."""
 
 import ast
 import builtins
@@ -235,7 +235,7 @@ VALUES_OF_OWN = "count index title find get join lower upper split strip copy ad
 
 
 class NarrowForms(unittest.TestCase):
-    """Rules L13 and L15 to L28, as far as the syntax tree shows them."""
+    """Parts of the rules L13, L15, L18, L19, L21 to L24 and L26 to L28."""
 
     def test_sets_are_measured_or_asked_on_the_spot(self):
         for path, tree in trees():
